@@ -1,0 +1,1 @@
+"""Fourtowns: clubs by rules on odd and even."""
