@@ -1,6 +1,6 @@
 """Towns: people 0, 1, .., and the clubs that they are in."""
 
-from fourtowns.errors import BadClub, BadTown
+from fourtowns.errors import BadClub, BadNumber, BadTown
 
 MOST_PEOPLE = 8
 
@@ -61,9 +61,28 @@ def check_club(value, people):
         raise BadClub("a club is an ascending tuple of unlike people of the town")
 
 
+def check_number(value, most):
+    """Raise BadNumber if a value is no number of people from 1 to most."""
+    if not is_number(value) or not 1 <= value <= most:
+        raise BadNumber("a number of people is an integer from 1 to the greatest that is taken")
+
+
 def in_both(one, other):
     """The people in both of two clubs, ascending."""
     return tuple([person for person in one if person in other])
+
+
+def joined(parts):
+    """What any of the parts make up, in no certain order; each part's people are above those of the part ahead."""
+    found = [()]
+    for part in parts:
+        found = found + [club + part for club in found]
+    return found
+
+
+def all_clubs(people):
+    """All clubs of so many people, ascending."""
+    return sorted(joined([(person,) for person in range(people)]))
 
 
 def is_town(value):

@@ -14,7 +14,49 @@ STRANGE_VALUES = (
     (2, None), (2, [(0,)]), (2, {(0,): (1,)}), (2, ([0],)), (2, (0,)), (0, ()), (9, ()), ("2", ()), (True, ()),
 )
 
+# Each value with the first word that names what is wrong.
+NO_TOWNS = (
+    (0, "whole"), (2, "whole"), ("ab", "whole"), ("", "whole"), (True, "whole"), (False, "whole"), (None, "whole"),
+    ((), "whole"), ((2,), "whole"), ((2, (), ()), "whole"), ([], "whole"), ([2, ()], "whole"), ({}, "whole"),
+    ({2: ()}, "whole"), ({2: (), 3: ()}, "whole"), (((2, ()),), "whole"), (([2, ()],), "whole"),
+    ([0, None], "whole"), ([True, [[1, 0]]], "whole"), ((0, [], None), "whole"),
+    ((0, ()), "people"), ((9, ()), "people"), ((-1, ()), "people"), ((10 ** 30, ()), "people"),
+    ((True, ()), "people"), ((False, ()), "people"), (("2", ()), "people"), ((None, ()), "people"),
+    (((), 2), "people"), (([2], ()), "people"), (({2: 2}, ()), "people"), (((2,), ()), "people"),
+    ((0, None), "people"), ((9, [(1, 0)]), "people"), ((True, ((0,), (0,))), "people"), (("ab", "cd"), "people"),
+    ((None, None), "people"), ((((2, ()), 0)), "people"),
+    ((2, 0), "clubs"), ((2, None), "clubs"), ((2, True), "clubs"), ((2, "01"), "clubs"), ((2, ""), "clubs"),
+    ((2, []), "clubs"), ((2, {}), "clubs"), ((2, [(0,)]), "clubs"), ((2, {(0,): (1,)}), "clubs"),
+    ((2, (0,)), "clubs"), ((2, (0, 1)), "clubs"), ((2, (None,)), "clubs"), ((2, ("",)), "clubs"),
+    ((2, ("0",)), "clubs"), ((2, (True,)), "clubs"), ((2, ([],)), "clubs"), ((2, ([0],)), "clubs"),
+    ((2, ({},)), "clubs"), ((2, ({0: 1},)), "clubs"), ((2, ((), [0])), "clubs"), ((2, ((0,), None)), "clubs"),
+    ((2, ((1,), (0,))), "clubs"), ((2, ((0,), ())), "clubs"), ((2, ((0, 1), (0,))), "clubs"),
+    ((3, ((0,), (2,), (1,))), "clubs"), ((3, ((), (1,), (0, 2))), "clubs"),
+    ((2, ((0,), (0,))), "clubs"), ((2, ((), ())), "clubs"), ((3, ((0,), (1, 2), (1, 2))), "clubs"),
+    ((2, ((1, 0),)), "clubs"), ((4, ((0, 2, 1),)), "clubs"), ((4, ((0,), (3, 1))), "clubs"),
+    ((2, ((0, 0),)), "clubs"), ((3, ((0, 1, 1),)), "clubs"),
+    ((2, ((-1,),)), "clubs"), ((2, ((-1, 0),)), "clubs"), ((2, ((2,),)), "clubs"), ((2, ((0, 2),)), "clubs"),
+    ((8, ((8,),)), "clubs"), ((1, ((1,),)), "clubs"), ((2, ((10 ** 30,),)), "clubs"),
+    ((2, ((True,),)), "clubs"), ((2, ((False,),)), "clubs"), ((2, ((0, True),)), "clubs"),
+    ((2, ((False, 1),)), "clubs"), ((3, ((0,), (False, 2))), "clubs"),
+    ((2, (("0",),)), "clubs"), ((2, ((None,),)), "clubs"), ((2, (((),),)), "clubs"), ((2, (((0,),),)), "clubs"),
+    ((2, (([0],),)), "clubs"), ((2, ((0, "1"),)), "clubs"), ((2, ((0,), ("1",))), "clubs"),
+    ((2, ((0,), (None,))), "clubs"),
+)
+
 WORD_PAIRS = (("even", "even"), ("even", "odd"), ("odd", "even"), ("odd", "odd"))
+
+NO_RULES = STRANGE_VALUES + (
+    2, "even odd", ["even", "even"], ["odd", "odd"], ("even", "odd", "odd"), ("odd",), ("even", "uneven"),
+    ("odd", "none"), ("none", "odd"), ("ODD", "even"), ("even", ""), ("even ", "odd"), (0, 1), (True, False),
+    (None, None), ("odd", None), (["odd"], "even"), (("odd", "even"), "odd"), {"odd": "even", "even": "odd"},
+)
+
+# None of these is an integer, and so no number of people.
+NO_INTEGERS = (
+    True, False, None, "", "1", "3", " 4", "odd", (), (3,), (3, ()), ("3",), (True,), [], [3], [3, 4], {}, {3: 3},
+    {"people": 3}, ((3,),), ([3],), (None,), ({3: 4},),
+)
 
 
 def all_clubs(people):
@@ -29,6 +71,31 @@ def small_towns(most_people=3, most_clubs=8):
         for many in range(min(most_clubs, len(clubs)) + 1):
             for chosen in combinations(clubs, many):
                 yield people, chosen
+
+
+def told_breach(town, rule):
+    """What breaking has to return, by the words of the document."""
+    _, clubs = town
+    wants_odd = [word == "odd" for word in rule]
+    wrong = [club for club in clubs if (len(club) % 2 == 1) != wants_odd[0]]
+    if wrong:
+        return (wrong[0],)
+    pairs = [(clubs[i], clubs[k]) for i in range(len(clubs)) for k in range(i + 1, len(clubs))]
+    wrong = [pair for pair in pairs if (len(set(pair[0]) & set(pair[1])) % 2 == 1) != wants_odd[1]]
+    return wrong[0] if wrong else None
+
+
+def told_kept(people, clubs, rule):
+    """Whether clubs, in any order, keep a rule, by the words of the document."""
+    return told_breach((people, tuple(sorted(clubs))), rule) is None
+
+
+def small_kept_towns(most_people=3, most_clubs=8):
+    """All towns of few people with few clubs, each with each of the rules that it keeps."""
+    for town in small_towns(most_people, most_clubs):
+        for rule in WORD_PAIRS:
+            if told_breach(town, rule) is None:
+                yield town, rule
 
 
 class ProgramCase(unittest.TestCase):

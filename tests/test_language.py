@@ -4,6 +4,7 @@ import ast
 import builtins
 import unittest
 from importlib import import_module
+from inspect import signature
 from pathlib import Path
 
 FOLDER = Path(__file__).resolve().parent.parent / "fourtowns"
@@ -15,6 +16,18 @@ INTERFACE = {
     ),
     "towns": ("is_town", "members", "shared"),
     "rules": ("all_rules", "keeps", "rules_kept", "breaking"),
+    "growths": ("more_clubs", "is_full", "filled", "shows_filled"),
+    "greatest": ("most_clubs", "great_town", "shows_great_town"),
+    "lists": ("great_towns",),
+}
+
+ARGUMENTS = {
+    "is_town": ["value"], "members": ["town"], "shared": ["town", "one", "other"],
+    "all_rules": [], "keeps": ["town", "rule"], "rules_kept": ["town"], "breaking": ["town", "rule"],
+    "more_clubs": ["town", "rule"], "is_full": ["town", "rule"], "filled": ["town", "rule"],
+    "shows_filled": ["town", "rule", "value"],
+    "most_clubs": ["people", "rule"], "great_town": ["people", "rule"], "shows_great_town": ["people", "rule", "value"],
+    "great_towns": ["people", "rule"],
 }
 
 LIBRARY = ("heapq", "math", "itertools", "collections")
@@ -84,6 +97,13 @@ class InterfaceTest(unittest.TestCase):
             for name in names:
                 self.assertIn(name, defined)
                 self.assertTrue(callable(getattr(import_module(f"fourtowns.{module}"), name)))
+
+    def test_the_names_of_arguments(self):
+        for module, names in INTERFACE.items():
+            for name in names:
+                if module != "errors":
+                    function = getattr(import_module(f"fourtowns.{module}"), name)
+                    self.assertEqual(list(signature(function).parameters), ARGUMENTS[name], name)
 
 
 if __name__ == "__main__":

@@ -4,29 +4,11 @@ import unittest
 
 from fourtowns.errors import BadRule, BadTown
 from fourtowns.rules import all_rules, breaking, keeps, rules_kept
-from helper import STRANGE_VALUES, WORD_PAIRS, ProgramCase, all_clubs, small_towns
+from helper import NO_RULES, STRANGE_VALUES, WORD_PAIRS, ProgramCase, all_clubs, small_towns, told_breach
 
 TOWN = (4, ((0, 1), (0, 2), (1, 2)))
 
 EVEN_EVEN, EVEN_ODD, ODD_EVEN, ODD_ODD = WORD_PAIRS
-
-NO_RULES = STRANGE_VALUES + (
-    2, "even odd", ["even", "even"], ["odd", "odd"], ("even", "odd", "odd"), ("odd",), ("even", "uneven"),
-    ("odd", "none"), ("none", "odd"), ("ODD", "even"), ("even", ""), ("even ", "odd"), (0, 1), (True, False),
-    (None, None), ("odd", None), (["odd"], "even"), (("odd", "even"), "odd"), {"odd": "even", "even": "odd"},
-)
-
-
-def told_breach(town, rule):
-    """What breaking has to return, by the words of the document."""
-    _, clubs = town
-    wants_odd = [word == "odd" for word in rule]
-    wrong = [club for club in clubs if (len(club) % 2 == 1) != wants_odd[0]]
-    if wrong:
-        return (wrong[0],)
-    pairs = [(clubs[i], clubs[k]) for i in range(len(clubs)) for k in range(i + 1, len(clubs))]
-    wrong = [pair for pair in pairs if (len(set(pair[0]) & set(pair[1])) % 2 == 1) != wants_odd[1]]
-    return wrong[0] if wrong else None
 
 
 class ExamplesTest(ProgramCase):

@@ -5,39 +5,9 @@ from itertools import permutations
 
 from fourtowns.errors import BadClub, BadTown
 from fourtowns.towns import is_town, members, shared
-from helper import STRANGE_VALUES, ProgramCase, all_clubs, small_towns
+from helper import NO_TOWNS, STRANGE_VALUES, ProgramCase, all_clubs, small_towns
 
 TOWN = (4, ((0, 1), (0, 2), (1, 2)))
-
-# Each value with the first word that names what is wrong.
-NO_TOWNS = (
-    (0, "whole"), (2, "whole"), ("ab", "whole"), ("", "whole"), (True, "whole"), (False, "whole"), (None, "whole"),
-    ((), "whole"), ((2,), "whole"), ((2, (), ()), "whole"), ([], "whole"), ([2, ()], "whole"), ({}, "whole"),
-    ({2: ()}, "whole"), ({2: (), 3: ()}, "whole"), (((2, ()),), "whole"), (([2, ()],), "whole"),
-    ([0, None], "whole"), ([True, [[1, 0]]], "whole"), ((0, [], None), "whole"),
-    ((0, ()), "people"), ((9, ()), "people"), ((-1, ()), "people"), ((10 ** 30, ()), "people"),
-    ((True, ()), "people"), ((False, ()), "people"), (("2", ()), "people"), ((None, ()), "people"),
-    (((), 2), "people"), (([2], ()), "people"), (({2: 2}, ()), "people"), (((2,), ()), "people"),
-    ((0, None), "people"), ((9, [(1, 0)]), "people"), ((True, ((0,), (0,))), "people"), (("ab", "cd"), "people"),
-    ((None, None), "people"), ((((2, ()), 0)), "people"),
-    ((2, 0), "clubs"), ((2, None), "clubs"), ((2, True), "clubs"), ((2, "01"), "clubs"), ((2, ""), "clubs"),
-    ((2, []), "clubs"), ((2, {}), "clubs"), ((2, [(0,)]), "clubs"), ((2, {(0,): (1,)}), "clubs"),
-    ((2, (0,)), "clubs"), ((2, (0, 1)), "clubs"), ((2, (None,)), "clubs"), ((2, ("",)), "clubs"),
-    ((2, ("0",)), "clubs"), ((2, (True,)), "clubs"), ((2, ([],)), "clubs"), ((2, ([0],)), "clubs"),
-    ((2, ({},)), "clubs"), ((2, ({0: 1},)), "clubs"), ((2, ((), [0])), "clubs"), ((2, ((0,), None)), "clubs"),
-    ((2, ((1,), (0,))), "clubs"), ((2, ((0,), ())), "clubs"), ((2, ((0, 1), (0,))), "clubs"),
-    ((3, ((0,), (2,), (1,))), "clubs"), ((3, ((), (1,), (0, 2))), "clubs"),
-    ((2, ((0,), (0,))), "clubs"), ((2, ((), ())), "clubs"), ((3, ((0,), (1, 2), (1, 2))), "clubs"),
-    ((2, ((1, 0),)), "clubs"), ((4, ((0, 2, 1),)), "clubs"), ((4, ((0,), (3, 1))), "clubs"),
-    ((2, ((0, 0),)), "clubs"), ((3, ((0, 1, 1),)), "clubs"),
-    ((2, ((-1,),)), "clubs"), ((2, ((-1, 0),)), "clubs"), ((2, ((2,),)), "clubs"), ((2, ((0, 2),)), "clubs"),
-    ((8, ((8,),)), "clubs"), ((1, ((1,),)), "clubs"), ((2, ((10 ** 30,),)), "clubs"),
-    ((2, ((True,),)), "clubs"), ((2, ((False,),)), "clubs"), ((2, ((0, True),)), "clubs"),
-    ((2, ((False, 1),)), "clubs"), ((3, ((0,), (False, 2))), "clubs"),
-    ((2, (("0",),)), "clubs"), ((2, ((None,),)), "clubs"), ((2, (((),),)), "clubs"), ((2, (((0,),),)), "clubs"),
-    ((2, (([0],),)), "clubs"), ((2, ((0, "1"),)), "clubs"), ((2, ((0,), ("1",))), "clubs"),
-    ((2, ((0,), (None,))), "clubs"),
-)
 
 NO_CLUBS_OF_FOUR = (
     0, 3, -1, True, False, None, "", "0", "01", [], [0], [0, 1], {}, {0: 1}, (4,), (0, 4), (-1,), (-1, 0), (9,),
