@@ -1,7 +1,36 @@
-"""What the tests share: values of every kind, all small towns, and checked calls."""
+"""What the tests share: the interface, values of every kind, all small towns, and checked calls."""
 
 import unittest
 from itertools import combinations
+
+# The names of the interface by their modules, and the arguments of all but the errors.
+INTERFACE = {
+    "errors": (
+        "TownError", "BadTown", "BadRule", "BadClub", "BadNumber", "BreaksRule", "NoClub", "NoStep", "BadText",
+        "BadLine",
+    ),
+    "towns": ("is_town", "members", "shared"),
+    "rules": ("all_rules", "keeps", "rules_kept", "breaking"),
+    "growths": ("more_clubs", "is_full", "filled", "shows_filled"),
+    "greatest": ("most_clubs", "great_town", "shows_great_town"),
+    "lists": ("great_towns",),
+    "counts": ("count_great",),
+    "sums": ("summed", "total", "sums", "dimension", "is_sum", "beside"),
+    "halls": ("Townhall",),
+    "towntexts": ("write_town", "read_town"),
+}
+
+ARGUMENTS = {
+    "is_town": ["value"], "members": ["town"], "shared": ["town", "one", "other"],
+    "all_rules": [], "keeps": ["town", "rule"], "rules_kept": ["town"], "breaking": ["town", "rule"],
+    "more_clubs": ["town", "rule"], "is_full": ["town", "rule"], "filled": ["town", "rule"],
+    "shows_filled": ["town", "rule", "value"],
+    "most_clubs": ["people", "rule"], "great_town": ["people", "rule"], "shows_great_town": ["people", "rule", "value"],
+    "great_towns": ["people", "rule"], "count_great": ["people", "rule"],
+    "summed": ["town", "one", "other"], "total": ["town"], "sums": ["town"], "dimension": ["town"],
+    "is_sum": ["town", "club"], "beside": ["town"],
+    "Townhall": ["people", "rule"], "write_town": ["town"], "read_town": ["text"],
+}
 
 # None of these is a town, a rule or a club of a town, however many people it has.
 STRANGE_VALUES = (
@@ -50,6 +79,13 @@ NO_RULES = STRANGE_VALUES + (
     2, "even odd", ["even", "even"], ["odd", "odd"], ("even", "odd", "odd"), ("odd",), ("even", "uneven"),
     ("odd", "none"), ("none", "odd"), ("ODD", "even"), ("even", ""), ("even ", "odd"), (0, 1), (True, False),
     (None, None), ("odd", None), (["odd"], "even"), (("odd", "even"), "odd"), {"odd": "even", "even": "odd"},
+)
+
+# None of these is a club of a town of four people; some are clubs of greater towns.
+NO_CLUBS_OF_FOUR = (
+    0, 3, -1, True, False, None, "", "0", "01", [], [0], [0, 1], {}, {0: 1}, (4,), (0, 4), (-1,), (-1, 0), (9,),
+    (1, 0), (0, 2, 1), (0, 0), (1, 2, 2), (True,), (False,), (0, True), (False, 1), ("0",), (0, "1"), (None,),
+    ((),), ((0,),), ([0],), ({},), (0, None), (10 ** 30,),
 )
 
 # None of these is an integer, and so no number of people.

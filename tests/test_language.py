@@ -7,28 +7,9 @@ from importlib import import_module
 from inspect import signature
 from pathlib import Path
 
+from helper import ARGUMENTS, INTERFACE
+
 FOLDER = Path(__file__).resolve().parent.parent / "fourtowns"
-
-INTERFACE = {
-    "errors": (
-        "TownError", "BadTown", "BadRule", "BadClub", "BadNumber", "BreaksRule", "NoClub", "NoStep", "BadText",
-        "BadLine",
-    ),
-    "towns": ("is_town", "members", "shared"),
-    "rules": ("all_rules", "keeps", "rules_kept", "breaking"),
-    "growths": ("more_clubs", "is_full", "filled", "shows_filled"),
-    "greatest": ("most_clubs", "great_town", "shows_great_town"),
-    "lists": ("great_towns",),
-}
-
-ARGUMENTS = {
-    "is_town": ["value"], "members": ["town"], "shared": ["town", "one", "other"],
-    "all_rules": [], "keeps": ["town", "rule"], "rules_kept": ["town"], "breaking": ["town", "rule"],
-    "more_clubs": ["town", "rule"], "is_full": ["town", "rule"], "filled": ["town", "rule"],
-    "shows_filled": ["town", "rule", "value"],
-    "most_clubs": ["people", "rule"], "great_town": ["people", "rule"], "shows_great_town": ["people", "rule", "value"],
-    "great_towns": ["people", "rule"],
-}
 
 LIBRARY = ("heapq", "math", "itertools", "collections")
 

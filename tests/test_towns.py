@@ -5,15 +5,9 @@ from itertools import permutations
 
 from fourtowns.errors import BadClub, BadTown
 from fourtowns.towns import is_town, members, shared
-from helper import NO_TOWNS, STRANGE_VALUES, ProgramCase, all_clubs, small_towns
+from helper import NO_CLUBS_OF_FOUR, NO_TOWNS, STRANGE_VALUES, ProgramCase, all_clubs, small_towns
 
 TOWN = (4, ((0, 1), (0, 2), (1, 2)))
-
-NO_CLUBS_OF_FOUR = (
-    0, 3, -1, True, False, None, "", "0", "01", [], [0], [0, 1], {}, {0: 1}, (4,), (0, 4), (-1,), (-1, 0), (9,),
-    (1, 0), (0, 2, 1), (0, 0), (1, 2, 2), (True,), (False,), (0, True), (False, 1), ("0",), (0, "1"), (None,),
-    ((),), ((0,),), ([0],), ({},), (0, None), (10 ** 30,),
-)
 
 
 class ExamplesTest(ProgramCase):
